@@ -1,0 +1,8 @@
+"""The limits of the package."""
+
+MAX_DISHES = 8
+MAX_TASTERS = 16
+MAX_WEIGHT = 10 ** 12
+MAX_OPERATIONS = 60
+MAX_BATCH = 20
+LOG_SIZE = 100

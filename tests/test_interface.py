@@ -1,0 +1,39 @@
+"""Point 109: the names of the interface, their modules and their parameters."""
+
+import ast
+import importlib
+import inspect
+import pathlib
+import unittest
+
+PACKAGE = pathlib.Path(__file__).resolve().parent.parent / "tasterow"
+
+FUNCTIONS = {
+    "rankings": {
+        "is_ranking": "(dishes, value)",
+        "reverse_ranking": "(ranking)",
+        "ranking_index": "(ranking)",
+        "ranking_at": "(dishes, index)",
+        "differences": "(one, other)",
+        "distance": "(one, other)",
+        "is_between": "(one, other, third)",
+    },
+}
+
+
+class Interface(unittest.TestCase):
+
+    def test_functions_have_the_documented_parameters(self):
+        for module, functions in FUNCTIONS.items():
+            loaded = importlib.import_module(f"tasterow.{module}")
+            for name, parameters in functions.items():
+                with self.subTest(module=module, name=name):
+                    self.assertEqual(str(inspect.signature(getattr(loaded, name))), parameters)
+
+    def test_functions_are_defined_in_their_own_files(self):
+        for module, functions in FUNCTIONS.items():
+            tree = ast.parse((PACKAGE / f"{module}.py").read_text())
+            defined = [node.name for node in tree.body if isinstance(node, ast.FunctionDef)]
+            for name in functions:
+                with self.subTest(module=module, name=name):
+                    self.assertEqual(defined.count(name), 1)
