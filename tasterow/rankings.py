@@ -2,17 +2,12 @@
 
 from tasterow.errors import NoIndex
 from tasterow.limits import MAX_DISHES
-from tasterow.values import is_whole, is_within
+from tasterow.values import ascending_tuples, is_order, is_within
 
 
 def is_ranking(dishes, value):
     """Return whether value is a ranking of that many dishes."""
-    if not 1 <= dishes <= MAX_DISHES:
-        return False
-    # Only integers can be sorted safely, and True would pass for 1.
-    if not isinstance(value, tuple) or not all([is_whole(dish) for dish in value]):
-        return False
-    return sorted(value) == list(range(dishes))
+    return 1 <= dishes <= MAX_DISHES and is_order(dishes, value)
 
 
 def reverse_ranking(ranking):
@@ -58,7 +53,7 @@ def ranking_at(dishes, index):
 
 def all_pairs(dishes):
     """Return the ascending list of all pairs of that many dishes."""
-    return [(low, high) for low in range(dishes) for high in range(low + 1, dishes)]
+    return ascending_tuples(dishes, 2)
 
 
 def prefers(ranking, one, other):

@@ -1,8 +1,17 @@
-"""What the tests share: strict comparison, and values of unusual kinds."""
+"""What the tests share: strict comparison, values of unusual kinds, tables, and slow definitions."""
 
+import functools
+import random
 import unittest
+from itertools import combinations, permutations, product
+
+from tasterow.errors import NotSeatable
 
 LONG = int("9" * 60)
+T = (3, (((0, 1, 2), 1), ((2, 1, 0), 1), ((1, 0, 2), 2)))
+U = (3, (((0, 1, 2), 1), ((2, 1, 0), 1), ((1, 0, 2), 2), ((0, 2, 1), 1)))
+# Its four tasters form a quadruple, but no three of them form a triple.
+FOUR = (4, (((0, 1, 2, 3), 1), ((1, 0, 3, 2), 2), ((1, 0, 2, 3), 3), ((0, 1, 3, 2), 4)))
 
 
 def odd_values():
@@ -21,6 +30,135 @@ def odd_values():
     ]
 
 
+def replacements(part):
+    """Values of other kinds that a careless check takes for the part."""
+    found = [None, [part], (part,), {}]
+    if isinstance(part, str):
+        return found + ["", part[1:], part + "s", part.upper(), " " + part, {part: part}, 0, True]
+    found.append(str(part))
+    if isinstance(part, tuple):
+        found += [list(part), dict(enumerate(part)), (), []]
+    if isinstance(part, int) and part in (0, 1):
+        found += [bool(part)]
+    return found
+
+
+def spoiled(value):
+    """The value with one part, at any depth, replaced by one of another kind."""
+    found = replacements(value)
+    if isinstance(value, tuple):
+        for at, part in enumerate(value):
+            found += [(*value[:at], other, *value[at + 1:]) for other in spoiled(part)]
+    return found
+
+
+def resized(value):
+    """The value with one part, at any depth, left out, or written twice."""
+    found = []
+    if isinstance(value, tuple):
+        for at, part in enumerate(value):
+            found += [value[:at] + value[at + 1:], (*value[:at], part, part, *value[at + 1:])]
+            found += [(*value[:at], other, *value[at + 1:]) for other in resized(part)]
+        found += [(*value, None), (*value, ())]
+    return found
+
+
+def weigh(dishes, rankings):
+    """The table of these rankings, with different weights."""
+    return (dishes, tuple((ranking, 1 + 3 * at % 7) for at, ranking in enumerate(rankings)))
+
+
+def random_rankings(source, dishes, many):
+    return [tuple(source.sample(range(dishes), dishes)) for taster in range(many)]
+
+
+def random_chain(source, dishes):
+    """The rankings on a way from a ranking to its reverse by swaps of neighbours."""
+    ranks = list(range(dishes))
+    names = source.sample(range(dishes), dishes)
+    rows = [tuple(ranks)]
+    while places := [at for at in range(dishes - 1) if ranks[at] < ranks[at + 1]]:
+        at = source.choice(places)
+        ranks[at], ranks[at + 1] = ranks[at + 1], ranks[at]
+        rows.append(tuple(ranks))
+    return [tuple(names[rank] for rank in row) for row in rows]
+
+
+def seatable_rankings(source, dishes, many):
+    return source.choices(random_chain(source, dishes), k=many)
+
+
+@functools.cache
+def small_tables():
+    """Tables of at most six tasters, with and without seatings, with and without equal rankings."""
+    found = [T, U, FOUR]
+    for dishes, many in ((1, 1), (1, 3), (2, 1), (2, 2), (2, 3), (2, 4), (3, 1), (3, 2), (3, 3)):
+        found += [weigh(dishes, rows) for rows in product(permutations(range(dishes)), repeat=many)]
+    found += [weigh(3, rows) for rows in list(product(permutations(range(3)), repeat=4))[::7]]
+    source = random.Random(5)
+    for dishes, many in ((3, 5), (4, 4), (4, 5), (5, 4), (5, 5), (8, 5), (4, 6)):
+        for attempt in range(8):
+            rows = seatable_rankings(source, dishes, many)
+            other = rows[:-1] + random_rankings(source, dishes, 1)
+            found += [weigh(dishes, row) for row in (rows, other, random_rankings(source, dishes, many))]
+    return found
+
+
+@functools.cache
+def large_tables():
+    """Pairs (table, chain that contains its rankings) with many tasters and dishes."""
+    source = random.Random(6)
+    found = []
+    for dishes, many in ((8, 16), (8, 15), (7, 16), (5, 16), (3, 16), (2, 16), (1, 16), (8, 10)):
+        for attempt in range(3):
+            chain = random_chain(source, dishes)
+            found.append((weigh(dishes, source.choices(chain, k=many)), chain))
+    return found
+
+
+def sides(table):
+    """For each taster, an integer with one bit for each pair: whether it prefers the lower dish."""
+    pairs = list(combinations(range(table[0]), 2))
+    return [
+        sum(1 << at for at, (low, high) in enumerate(pairs) if ranking.index(low) < ranking.index(high))
+        for ranking, weight in table[1]
+    ]
+
+
+def sits(row):
+    """Whether no three in a row of such integers break the definition of a seating."""
+    return not any(~(x ^ z) & (x ^ y) for x, y, z in combinations(row, 3))
+
+
+@functools.cache
+def seatings(table):
+    """The ascending list of all seatings, by the definition."""
+    marks = sides(table)
+    return [order for order in permutations(range(len(marks))) if sits([marks[at] for at in order])]
+
+
+def obstructs(table, value):
+    """Whether a value of the right form is an obstruction, by the definition."""
+    word, tasters, pairs = value
+    rows = [table[1][taster][0] for taster in tasters]
+    marks = [[row.index(low) < row.index(high) for row in rows] for low, high in pairs]
+    if word == "triple":
+        return all(marks[at][at] != mark for at in range(3) for k, mark in enumerate(marks[at]) if k != at)
+    return all(one != other for one, other in combinations(zip(*marks), 2))
+
+
+def right_form(table, value):
+    """Whether a value made of tuples has the form of an obstruction of a table of that size."""
+    word, tasters, pairs = value
+    many = {"triple": 3, "quadruple": 4}[word]
+    return (
+        tasters in combinations(range(len(table[1])), many)
+        and len(pairs) == {"triple": 3, "quadruple": 2}[word]
+        and all(pair in combinations(range(table[0]), 2) for pair in pairs)
+        and (word == "triple" or pairs[0] < pairs[1])
+    )
+
+
 class Case(unittest.TestCase):
     """A test case that tells True from 1 and watches arguments."""
 
@@ -37,15 +175,35 @@ class Case(unittest.TestCase):
         self.assertEqual(repr(arguments), before)
         return result
 
-    def fails(self, error, attributes, function, *arguments):
-        """Call twice: each call raises just that error with just those attributes."""
+    def caught(self, error, function, *arguments):
+        """Call twice: each call raises just that error. Return the attributes of both."""
         before = repr(arguments)
+        found = []
         for attempt in range(2):
             with self.assertRaises(error) as caught:
                 function(*arguments)
             self.assertIs(type(caught.exception), error)
-            found = vars(caught.exception)
+            self.assertEqual(repr(arguments), before)
+            found.append(vars(caught.exception))
+        return found
+
+    def fails(self, error, attributes, function, *arguments):
+        """Each call raises just that error with just those attributes."""
+        for found in self.caught(error, function, *arguments):
             self.assertEqual(list(found), list(attributes))
             for name in attributes:
                 self.assertIs(found[name], attributes[name])
-            self.assertEqual(repr(arguments), before)
+
+    def not_seatable(self, table, function, *arguments):
+        """Each call raises NotSeatable with an obstruction of the table."""
+        one, other = self.caught(NotSeatable, function, *arguments)
+        self.same(one, other)
+        self.assertEqual(list(one), ["obstruction"])
+        self.is_obstruction_of(table, one["obstruction"])
+
+    def is_obstruction_of(self, table, value):
+        self.assertIsInstance(value, tuple)
+        self.assertNotIn("True", repr(value))
+        self.assertNotIn("False", repr(value))
+        self.assertTrue(right_form(table, value), value)
+        self.assertTrue(obstructs(table, value), value)

@@ -47,6 +47,146 @@ True
 >>> is_between((0, 1, 2), (1, 0, 2), (2, 1, 0))
 False
 """,
+    14: """
+>>> from tasterow.tables import is_table
+>>> T = (3, (((0, 1, 2), 1), ((2, 1, 0), 1), ((1, 0, 2), 2)))
+>>> is_table(T)
+True
+>>> is_table((3, ()))
+False
+""",
+    15: """
+>>> from tasterow.tables import rankings_of
+>>> T = (3, (((0, 1, 2), 1), ((2, 1, 0), 1), ((1, 0, 2), 2)))
+>>> rankings_of(T)
+((0, 1, 2), (2, 1, 0), (1, 0, 2))
+""",
+    16: """
+>>> from tasterow.tables import total_weight
+>>> T = (3, (((0, 1, 2), 1), ((2, 1, 0), 1), ((1, 0, 2), 2)))
+>>> total_weight(T)
+4
+""",
+    17: """
+>>> from tasterow.tables import groups
+>>> groups((2, (((0, 1), 1), ((1, 0), 1), ((0, 1), 5))))
+((0, 2), (1,))
+""",
+    18: """
+>>> from tasterow.tables import add_taster
+>>> T = (3, (((0, 1, 2), 1), ((2, 1, 0), 1), ((1, 0, 2), 2)))
+>>> U = (3, (((0, 1, 2), 1), ((2, 1, 0), 1), ((1, 0, 2), 2), ((0, 2, 1), 1)))
+>>> add_taster(T, (0, 2, 1), 1) == U
+True
+>>> add_taster(T, (0, 1), 1)
+raises NoRanking((0, 1))
+""",
+    19: """
+>>> from tasterow.tables import remove_taster
+>>> T = (3, (((0, 1, 2), 1), ((2, 1, 0), 1), ((1, 0, 2), 2)))
+>>> U = (3, (((0, 1, 2), 1), ((2, 1, 0), 1), ((1, 0, 2), 2), ((0, 2, 1), 1)))
+>>> remove_taster(U, 3) == T
+True
+>>> remove_taster(T, 3)
+raises NoTaster(3)
+""",
+    20: """
+>>> from tasterow.tables import remove_dish
+>>> T = (3, (((0, 1, 2), 1), ((2, 1, 0), 1), ((1, 0, 2), 2)))
+>>> remove_dish(T, 0)
+(2, (((0, 1), 1), ((1, 0), 1), ((0, 1), 2)))
+""",
+    21: """
+>>> from tasterow.tables import restrict
+>>> T = (3, (((0, 1, 2), 1), ((2, 1, 0), 1), ((1, 0, 2), 2)))
+>>> restrict(T, (1, 2))
+(2, (((0, 1), 1), ((1, 0), 1), ((0, 1), 2)))
+>>> restrict(T, (2, 1))
+raises NoMenu
+""",
+    23: """
+>>> from tasterow.seatings import is_seating
+>>> T = (3, (((0, 1, 2), 1), ((2, 1, 0), 1), ((1, 0, 2), 2)))
+>>> is_seating(T, (0, 2, 1))
+True
+>>> is_seating(T, (0, 1, 2))
+False
+""",
+    24: """
+>>> from tasterow.seatings import splits
+>>> T = (3, (((0, 1, 2), 1), ((2, 1, 0), 1), ((1, 0, 2), 2)))
+>>> splits(T, 0)
+((1,), (1, 2))
+""",
+    26: """
+>>> from tasterow.obstructions import is_obstruction
+>>> U = (3, (((0, 1, 2), 1), ((2, 1, 0), 1), ((1, 0, 2), 2), ((0, 2, 1), 1)))
+>>> is_obstruction(U, ('quadruple', (0, 1, 2, 3), ((0, 1), (1, 2))))
+True
+>>> is_obstruction(U, ('triple', (1, 2, 3), ((0, 2), (1, 2), (0, 1))))
+True
+""",
+    27: """
+>>> from tasterow.obstructions import first_seating
+>>> T = (3, (((0, 1, 2), 1), ((2, 1, 0), 1), ((1, 0, 2), 2)))
+>>> first_seating(T)
+(0, 2, 1)
+>>> U = (3, (((0, 1, 2), 1), ((2, 1, 0), 1), ((1, 0, 2), 2), ((0, 2, 1), 1)))
+>>> first_seating(U)
+raises NotSeatable
+""",
+    28: """
+>>> from tasterow.obstructions import certificate
+>>> T = (3, (((0, 1, 2), 1), ((2, 1, 0), 1), ((1, 0, 2), 2)))
+>>> certificate(T)
+('seating', (0, 2, 1))
+""",
+    29: """
+>>> from tasterow.obstructions import is_certificate
+>>> T = (3, (((0, 1, 2), 1), ((2, 1, 0), 1), ((1, 0, 2), 2)))
+>>> is_certificate(T, ('seating', (1, 2, 0)))
+True
+>>> U = (3, (((0, 1, 2), 1), ((2, 1, 0), 1), ((1, 0, 2), 2), ((0, 2, 1), 1)))
+>>> is_certificate(U, ('seating', (0, 2, 1, 3)))
+False
+""",
+    30: """
+>>> from tasterow.obstructions import minimal_conflicts
+>>> U = (3, (((0, 1, 2), 1), ((2, 1, 0), 1), ((1, 0, 2), 2), ((0, 2, 1), 1)))
+>>> minimal_conflicts(U)
+((1, 2, 3),)
+""",
+    32: """
+>>> from tasterow.counting import count_seatings
+>>> T = (3, (((0, 1, 2), 1), ((2, 1, 0), 1), ((1, 0, 2), 2)))
+>>> count_seatings(T)
+2
+>>> U = (3, (((0, 1, 2), 1), ((2, 1, 0), 1), ((1, 0, 2), 2), ((0, 2, 1), 1)))
+>>> count_seatings(U)
+0
+""",
+    33: """
+>>> from tasterow.counting import seating_at
+>>> T = (3, (((0, 1, 2), 1), ((2, 1, 0), 1), ((1, 0, 2), 2)))
+>>> seating_at(T, 1)
+(1, 2, 0)
+>>> seating_at(T, 2)
+raises NoIndex(2)
+""",
+    34: """
+>>> from tasterow.counting import seating_index
+>>> T = (3, (((0, 1, 2), 1), ((2, 1, 0), 1), ((1, 0, 2), 2)))
+>>> seating_index(T, (1, 2, 0))
+1
+>>> seating_index(T, (0, 1, 2))
+raises NoSeating
+""",
+    35: """
+>>> from tasterow.counting import group_order
+>>> T = (3, (((0, 1, 2), 1), ((2, 1, 0), 1), ((1, 0, 2), 2)))
+>>> group_order(T)
+((0,), (2,), (1,))
+""",
 }
 
 

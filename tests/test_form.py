@@ -23,6 +23,15 @@ BARRED = re.compile(
 )
 
 
+LAZY = ("zip", "enumerate", "reversed", "range", "items", "keys", "values")
+TAKES_LAZY = ("list", "tuple", "dict", "sorted", "sum", "any", "all", "enumerate", "zip", "min", "max", "reversed")
+
+
+def lazy(call):
+    """Whether a call gives something that is iterated once."""
+    return (getattr(call.func, "id", None) or getattr(call.func, "attr", None)) in LAZY
+
+
 def sources():
     return [(path.name, path.read_text()) for path in sorted(PACKAGE.glob("*.py"))]
 
@@ -76,6 +85,34 @@ class Form(unittest.TestCase):
                 with self.subTest(name=name, line=node.lineno):
                     self.assertIn(node.id, BUILTINS)
                     self.assertIsInstance(node.ctx, ast.Load)
+
+    def test_no_local_name_hides_another(self):
+        for name, text in sources():
+            tree = ast.parse(text)
+            outer = {node.name for node in tree.body if isinstance(node, (ast.FunctionDef, ast.ClassDef))}
+            for node in tree.body:
+                if isinstance(node, ast.ImportFrom):
+                    outer.update([alias.asname or alias.name for alias in node.names])
+            for node in ast.walk(tree):
+                word = node.arg if isinstance(node, ast.arg) else ""
+                if isinstance(node, ast.Name) and isinstance(node.ctx, ast.Store):
+                    word = node.id
+                with self.subTest(name=name, word=word):
+                    self.assertNotIn(word, outer)
+                    self.assertFalse(hasattr(builtins, word))
+
+    def test_lazy_values_are_iterated_on_the_spot(self):
+        for name, node in nodes(ast.Call):
+            for part in node.args:
+                if isinstance(part, ast.Call) and lazy(part):
+                    with self.subTest(name=name, line=node.lineno):
+                        self.assertIn(getattr(node.func, "id", ""), TAKES_LAZY)
+        for name, node in nodes((ast.Assign, ast.Return)):
+            with self.subTest(name=name, line=node.lineno):
+                self.assertFalse(isinstance(node.value, ast.Call) and lazy(node.value))
+
+    def test_lists_instead_of_generators(self):
+        self.assertEqual(nodes((ast.GeneratorExp, ast.Yield, ast.YieldFrom)), [])
 
     def test_plain_names(self):
         for name, node in nodes((ast.Name, ast.arg, ast.Attribute)):

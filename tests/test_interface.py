@@ -18,6 +18,33 @@ FUNCTIONS = {
         "distance": "(one, other)",
         "is_between": "(one, other, third)",
     },
+    "tables": {
+        "is_table": "(value)",
+        "rankings_of": "(table)",
+        "total_weight": "(table)",
+        "groups": "(table)",
+        "add_taster": "(table, ranking, weight)",
+        "remove_taster": "(table, taster)",
+        "remove_dish": "(table, dish)",
+        "restrict": "(table, menu)",
+    },
+    "seatings": {
+        "is_seating": "(table, value)",
+        "splits": "(table, taster)",
+    },
+    "obstructions": {
+        "is_obstruction": "(table, value)",
+        "first_seating": "(table)",
+        "certificate": "(table)",
+        "is_certificate": "(table, value)",
+        "minimal_conflicts": "(table)",
+    },
+    "counting": {
+        "count_seatings": "(table)",
+        "seating_at": "(table, index)",
+        "seating_index": "(table, value)",
+        "group_order": "(table)",
+    },
 }
 
 

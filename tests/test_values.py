@@ -1,7 +1,9 @@
-"""Point 2: what an integer is."""
+"""Point 2: what an integer is, and what ascending means."""
 
-from helper import Case, LONG, odd_values
-from tasterow.values import is_whole, is_within
+from itertools import combinations, product
+
+from helper import Case, LONG, odd_values, spoiled
+from tasterow.values import ascending_tuples, is_ascending, is_order, is_whole, is_within
 
 
 class Integers(Case):
@@ -29,3 +31,27 @@ class Integers(Case):
             with self.subTest(value=value):
                 expected = type(value) is int and value in (0, 1, 5)
                 self.same(self.call(is_within, value, 0, 5), expected)
+
+
+class Tuples(Case):
+
+    def test_orders(self):
+        for size, length in product(range(4), range(5)):
+            for value in product(range(-1, 4), repeat=length):
+                self.same(is_order(size, value), sorted(value) == list(range(size)))
+
+    def test_ascending_tuples_of_numbers(self):
+        for length in range(4):
+            for value in product(range(-1, 5), repeat=length):
+                self.same(is_ascending(value, 0, 3), value in combinations(range(4), length))
+                self.same(is_ascending(value, 1, 2), value in combinations(range(1, 3), length))
+
+    def test_other_values(self):
+        for value in [*spoiled((0, 1, 2)), [0, 1, 2], (0, 1, True), (False, 1, 2)]:
+            with self.subTest(value=value):
+                self.same(self.call(is_order, 3, value), False)
+                self.same(self.call(is_ascending, value, 0, 3), value == () and isinstance(value, tuple))
+
+    def test_all_ascending_tuples(self):
+        for size, length in product(range(9), range(9)):
+            self.same(ascending_tuples(size, length), list(combinations(range(size), length)))
