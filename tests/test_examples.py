@@ -187,6 +187,92 @@ raises NoSeating
 >>> group_order(T)
 ((0,), (2,), (1,))
 """,
+    37: """
+>>> from tasterow.majorities import support
+>>> T = (3, (((0, 1, 2), 1), ((2, 1, 0), 1), ((1, 0, 2), 2)))
+>>> support(T, 1, 0)
+3
+>>> support(T, 1, 1)
+raises NoDish(1)
+""",
+    38: """
+>>> from tasterow.majorities import majority
+>>> T = (3, (((0, 1, 2), 1), ((2, 1, 0), 1), ((1, 0, 2), 2)))
+>>> majority(T)
+((0, 2), (1, 0), (1, 2))
+""",
+    39: """
+>>> from tasterow.majorities import ties
+>>> ties((2, (((0, 1), 1), ((1, 0), 1))))
+((0, 1),)
+""",
+    40: """
+>>> from tasterow.majorities import medians
+>>> T = (3, (((0, 1, 2), 1), ((2, 1, 0), 1), ((1, 0, 2), 2)))
+>>> medians(T)
+((1, 0, 2),)
+>>> medians((2, (((0, 1), 1), ((1, 0), 1))))
+((0, 1), (1, 0))
+""",
+    42: """
+>>> from tasterow.menus import is_menu
+>>> T = (3, (((0, 1, 2), 1), ((2, 1, 0), 1), ((1, 0, 2), 2)))
+>>> is_menu(T, (0, 2))
+True
+>>> is_menu(T, (2, 0))
+False
+""",
+    43: """
+>>> from tasterow.menus import choices
+>>> T = (3, (((0, 1, 2), 1), ((2, 1, 0), 1), ((1, 0, 2), 2)))
+>>> choices(T, (0, 2))
+(0, 2, 0)
+""",
+    44: """
+>>> from tasterow.menus import blocks
+>>> T = (3, (((0, 1, 2), 1), ((2, 1, 0), 1), ((1, 0, 2), 2)))
+>>> blocks(T, (0, 2))
+((0, 0, 1), (2, 2, 2))
+""",
+    45: """
+>>> from tasterow.menus import cost
+>>> T = (3, (((0, 1, 2), 1), ((2, 1, 0), 1), ((1, 0, 2), 2)))
+>>> cost(T, (0, 2))
+2
+""",
+    46: """
+>>> from tasterow.menus import best_menu
+>>> T = (3, (((0, 1, 2), 1), ((2, 1, 0), 1), ((1, 0, 2), 2)))
+>>> best_menu(T, 1)
+(1,)
+>>> best_menu(T, 4)
+raises NoSize(4)
+""",
+    47: """
+>>> from tasterow.menus import block_cost
+>>> T = (3, (((0, 1, 2), 1), ((2, 1, 0), 1), ((1, 0, 2), 2)))
+>>> block_cost(T, (0, 2, 1), (2,))
+1
+>>> block_cost(T, (0, 2, 1), (3,))
+raises NoCuts
+""",
+    49: """
+>>> from tasterow.swaps import swap_path
+>>> swap_path((0, 1, 2), (2, 1, 0))
+((0, 1, 2), (1, 0, 2), (1, 2, 0), (2, 1, 0))
+""",
+    50: """
+>>> from tasterow.swaps import is_shortest_path
+>>> is_shortest_path((0, 1), (1, 0), ((0, 1), (1, 0)))
+True
+>>> is_shortest_path((0, 1), (0, 1), ())
+False
+""",
+    51: """
+>>> from tasterow.swaps import count_shortest_paths
+>>> count_shortest_paths((0, 1, 2), (2, 1, 0))
+2
+""",
 }
 
 

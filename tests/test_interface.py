@@ -45,6 +45,25 @@ FUNCTIONS = {
         "seating_index": "(table, value)",
         "group_order": "(table)",
     },
+    "majorities": {
+        "support": "(table, one, other)",
+        "majority": "(table)",
+        "ties": "(table)",
+        "medians": "(table)",
+    },
+    "menus": {
+        "is_menu": "(table, value)",
+        "choices": "(table, menu)",
+        "blocks": "(table, menu)",
+        "cost": "(table, menu)",
+        "best_menu": "(table, size)",
+        "block_cost": "(table, seating, cuts)",
+    },
+    "swaps": {
+        "swap_path": "(one, other)",
+        "is_shortest_path": "(one, other, value)",
+        "count_shortest_paths": "(one, other)",
+    },
 }
 
 

@@ -1,4 +1,4 @@
-"""Points 22 to 24: seatings."""
+"""Points 22 to 24, and 3 (c): seatings."""
 
 from itertools import combinations, permutations, product
 
@@ -6,6 +6,8 @@ from helper import (
     LONG, T, U, Case, large_tables, odd_values, resized, seatings, sides, sits, small_tables, spoiled, weigh,
 )
 from tasterow.errors import NoTaster
+from tasterow.obstructions import first_seating
+from tasterow.rankings import differences
 from tasterow.seatings import is_seating, splits
 
 
@@ -107,3 +109,21 @@ class Splits(Case):
             for taster in [*wrong, many, many + 1, -many]:
                 with self.subTest(table=table, taster=taster):
                     self.fails(NoTaster, {"taster": taster}, splits, table, taster)
+
+
+class Distances(Case):
+
+    def check(self, table):
+        rows = [table[1][taster][0] for taster in first_seating(table)]
+        for start, end in combinations(range(len(rows)), 2):
+            steps = [differences(rows[at], rows[at + 1]) for at in range(start, end)]
+            # No pair occurs twice, so the union is disjoint.
+            expected = sorted([pair for step in steps for pair in step])
+            self.same(list(differences(rows[start], rows[end])), expected)
+
+    def test_distances_add_up_along_a_seating(self):
+        for table in small_tables():
+            if seatings(table):
+                self.check(table)
+        for table, rankings in large_tables():
+            self.check(table)
