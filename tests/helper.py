@@ -116,6 +116,47 @@ def large_tables():
     return found
 
 
+def rankings(dishes):
+    return list(permutations(range(dishes)))
+
+
+def gap(one, other):
+    """The number of pairs that differ."""
+    return sum(
+        (one.index(low) < one.index(high)) != (other.index(low) < other.index(high))
+        for low, high in combinations(range(len(one)), 2)
+    )
+
+
+def swapped(row, at):
+    row = list(row)
+    row[at], row[at + 1] = row[at + 1], row[at]
+    return tuple(row)
+
+
+def neighbours(row):
+    return [swapped(row, at) for at in range(len(row) - 1)]
+
+
+@functools.cache
+def shortest_paths(one, other):
+    """All shortest paths, by a search through all paths that are not too long."""
+    paths = [(one,)]
+    for left in range(gap(one, other) - 1, -1, -1):
+        paths = [(*path, row) for path in paths for row in neighbours(path[-1]) if gap(row, other) <= left]
+    return paths
+
+
+def swap_steps(one, other):
+    """The shortest path of which each step is at the lowest suitable index."""
+    path = [one]
+    while path[-1] != other:
+        row = path[-1]
+        at = min(k for k in range(len(row) - 1) if other.index(row[k + 1]) < other.index(row[k]))
+        path.append(swapped(row, at))
+    return tuple(path)
+
+
 def sides(table):
     """For each taster, an integer with one bit for each pair: whether it prefers the lower dish."""
     pairs = list(combinations(range(table[0]), 2))
@@ -135,6 +176,49 @@ def seatings(table):
     """The ascending list of all seatings, by the definition."""
     marks = sides(table)
     return [order for order in permutations(range(len(marks))) if sits([marks[at] for at in order])]
+
+
+@functools.cache
+def seatable_marks(marks):
+    return any(sits(order) for order in permutations(marks))
+
+
+def is_seatable(table, tasters):
+    """Whether these tasters are seatable by themselves, by the definition."""
+    marks = sides(table)
+    return seatable_marks(tuple(marks[taster] for taster in tasters))
+
+
+def unseatable_tables():
+    return [table for table in small_tables() if not seatings(table)]
+
+
+def seatable_tables():
+    return [table for table in small_tables() if seatings(table)]
+
+
+@functools.cache
+def large_unseatable_tables():
+    """Tables of many tasters without a seating: rankings at random, and a chain with one changed."""
+    source = random.Random(7)
+    found = [weigh(8, random_rankings(source, 8, 16)) for attempt in range(3)]
+    for table, chain in large_tables():
+        rows = [ranking for ranking, weight in table[1]]
+        rows[9:10] = random_rankings(source, table[0], 1)
+        table = weigh(table[0], rows)
+        if not all(is_seatable(table, tasters) for tasters in combinations(range(len(rows)), 4)):
+            found.append(table)
+    return found
+
+
+def first_by_chain(table, chain):
+    """The smallest seating: the order of a chain or its reverse, equal rankings ascending."""
+    places = [chain.index(ranking) for ranking, weight in table[1]]
+    tasters = range(len(places))
+    return min(
+        tuple(sorted(tasters, key=lambda taster: (places[taster], taster))),
+        tuple(sorted(tasters, key=lambda taster: (-places[taster], taster))),
+    )
 
 
 def obstructs(table, value):

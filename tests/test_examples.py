@@ -273,6 +273,119 @@ False
 >>> count_shortest_paths((0, 1, 2), (2, 1, 0))
 2
 """,
+    53: """
+>>> from tasterow.chains import chain
+>>> T = (3, (((0, 1, 2), 1), ((2, 1, 0), 1), ((1, 0, 2), 2)))
+>>> chain(T)
+((0, 1, 2), (1, 0, 2), (1, 2, 0), (2, 1, 0))
+""",
+    54: """
+>>> from tasterow.chains import is_chain
+>>> T = (3, (((0, 1, 2), 1), ((2, 1, 0), 1), ((1, 0, 2), 2)))
+>>> is_chain(T, ((0, 1, 2), (0, 2, 1), (2, 0, 1), (2, 1, 0)))
+False
+""",
+    55: """
+>>> from tasterow.chains import full_chain
+>>> full_chain((2, (((0, 1), 1),)))
+((0, 1), (1, 0))
+""",
+    56: """
+>>> from tasterow.chains import is_full_chain
+>>> T = (3, (((0, 1, 2), 1), ((2, 1, 0), 1), ((1, 0, 2), 2)))
+>>> is_full_chain(T, ((2, 1, 0), (1, 2, 0), (1, 0, 2), (0, 1, 2)))
+True
+""",
+    58: """
+>>> from tasterow.extensions import can_add
+>>> T = (3, (((0, 1, 2), 1), ((2, 1, 0), 1), ((1, 0, 2), 2)))
+>>> can_add(T, (1, 2, 0))
+True
+>>> can_add(T, (0, 2, 1))
+False
+""",
+    59: """
+>>> from tasterow.extensions import insert_positions
+>>> T = (3, (((0, 1, 2), 1), ((2, 1, 0), 1), ((1, 0, 2), 2)))
+>>> insert_positions(T, (1, 2, 0))
+(2,)
+>>> insert_positions(T, (1, 0, 2))
+(1, 2)
+""",
+    60: """
+>>> from tasterow.extensions import add_certificate
+>>> T = (3, (((0, 1, 2), 1), ((2, 1, 0), 1), ((1, 0, 2), 2)))
+>>> add_certificate(T, (1, 2, 0))
+('position', 2)
+""",
+    61: """
+>>> from tasterow.extensions import is_add_certificate
+>>> T = (3, (((0, 1, 2), 1), ((2, 1, 0), 1), ((1, 0, 2), 2)))
+>>> is_add_certificate(T, (0, 2, 1), ('obstruction', ('quadruple', (0, 1, 2, 3), ((0, 1), (1, 2)))))
+True
+""",
+    62: """
+>>> from tasterow.extensions import addable_rankings
+>>> T = (3, (((0, 1, 2), 1), ((2, 1, 0), 1), ((1, 0, 2), 2)))
+>>> addable_rankings(T)
+((0, 1, 2), (1, 0, 2), (1, 2, 0), (2, 1, 0))
+""",
+    64: """
+>>> from tasterow.subsets import heaviest_subset
+>>> U = (3, (((0, 1, 2), 1), ((2, 1, 0), 1), ((1, 0, 2), 2), ((0, 2, 1), 1)))
+>>> heaviest_subset(U)[0]
+4
+""",
+    65: """
+>>> from tasterow.subsets import level_certificate
+>>> T = (3, (((0, 1, 2), 1), ((2, 1, 0), 1), ((1, 0, 2), 2)))
+>>> level_certificate(T)
+(4, (0, 1, 2), ((1, 4, 3), (4, 1, 3), (3, 3, 2)))
+""",
+    66: """
+>>> from tasterow.subsets import is_level_certificate
+>>> T = (3, (((0, 1, 2), 1), ((2, 1, 0), 1), ((1, 0, 2), 2)))
+>>> is_level_certificate(T, (4, (0, 1, 2), ((1, 4, 3), (4, 1, 3), (4, 3, 2))))
+True
+>>> is_level_certificate(T, (4, (0, 1, 2), ((1, 3, 3), (4, 1, 3), (3, 3, 2))))
+False
+""",
+    68: """
+>>> from tasterow.lines import is_line
+>>> L = ((0, 1), (5, 0), (10, -1))
+>>> is_line(L)
+True
+>>> is_line(())
+False
+""",
+    69: """
+>>> from tasterow.lines import line_ranking
+>>> L = ((0, 1), (5, 0), (10, -1))
+>>> line_ranking(L, 4)
+(2, 1, 0)
+>>> line_ranking(L, 5)
+(0, 1, 2)
+""",
+    70: """
+>>> from tasterow.lines import line_segments
+>>> L = ((0, 1), (5, 0), (10, -1))
+>>> line_segments(L, 0, 10)
+((0, 4, (2, 1, 0)), (5, 10, (0, 1, 2)))
+""",
+    71: """
+>>> from tasterow.lines import line_distance
+>>> L = ((0, 1), (5, 0), (10, -1))
+>>> line_distance(L, 0, 10)
+3
+>>> line_distance(L, 5, 4)
+raises NoSpan
+""",
+    72: """
+>>> from tasterow.lines import line_changes
+>>> L = ((0, 1), (5, 0), (10, -1))
+>>> line_changes(L, 0, 10)
+((5, (0, 1)), (5, (0, 2)), (5, (1, 2)))
+""",
 }
 
 

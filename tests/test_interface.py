@@ -64,6 +64,31 @@ FUNCTIONS = {
         "is_shortest_path": "(one, other, value)",
         "count_shortest_paths": "(one, other)",
     },
+    "chains": {
+        "chain": "(table)",
+        "is_chain": "(table, value)",
+        "full_chain": "(table)",
+        "is_full_chain": "(table, value)",
+    },
+    "extensions": {
+        "can_add": "(table, ranking)",
+        "insert_positions": "(table, ranking)",
+        "add_certificate": "(table, ranking)",
+        "is_add_certificate": "(table, ranking, value)",
+        "addable_rankings": "(table)",
+    },
+    "subsets": {
+        "heaviest_subset": "(table)",
+        "level_certificate": "(table)",
+        "is_level_certificate": "(table, value)",
+    },
+    "lines": {
+        "is_line": "(value)",
+        "line_ranking": "(line, t)",
+        "line_segments": "(line, low, high)",
+        "line_distance": "(line, low, high)",
+        "line_changes": "(line, low, high)",
+    },
 }
 
 

@@ -1,11 +1,10 @@
 """Points 25 to 30, and 3 (a): obstructions and certificates."""
 
-import random
 from itertools import chain, combinations, permutations, product
 
 from helper import (
-    FOUR, LONG, T, U, Case, large_tables, obstructs, odd_values, random_rankings, resized, right_form, seatings,
-    sides, sits, small_tables, spoiled, weigh,
+    FOUR, LONG, T, U, Case, first_by_chain, is_seatable, large_tables, large_unseatable_tables, obstructs, odd_values,
+    resized, right_form, seatings, small_tables, spoiled, unseatable_tables, weigh,
 )
 from tasterow.obstructions import (
     certificate, first_seating, is_certificate, is_obstruction, minimal_conflicts,
@@ -26,42 +25,6 @@ def possible(table):
 
 def obstructions(table):
     return [value for value in possible(table) if obstructs(table, value)]
-
-
-def unseatable_tables():
-    return [table for table in small_tables() if not seatings(table)]
-
-
-def large_unseatable_tables():
-    """Tables of many tasters without a seating: rankings at random, and a chain with one changed."""
-    source = random.Random(7)
-    found = [weigh(8, random_rankings(source, 8, 16)) for attempt in range(3)]
-    for table, rankings in large_tables():
-        rows = [ranking for ranking, weight in table[1]]
-        rows[9:10] = random_rankings(source, table[0], 1)
-        table = weigh(table[0], rows)
-        if any(splits_badly(table, tasters) for tasters in combinations(range(len(rows)), 4)):
-            found.append(table)
-    return found
-
-
-def is_seatable(table, tasters):
-    marks = sides(table)
-    return any(sits([marks[taster] for taster in order]) for order in permutations(tasters))
-
-
-def splits_badly(table, tasters):
-    return not is_seatable(table, tasters)
-
-
-def smallest_by_chain(table, rankings):
-    """The smallest seating: the order of a chain or its reverse, equal rankings ascending."""
-    places = [rankings.index(ranking) for ranking, weight in table[1]]
-    tasters = range(len(places))
-    return min(
-        tuple(sorted(tasters, key=lambda taster: (places[taster], taster))),
-        tuple(sorted(tasters, key=lambda taster: (-places[taster], taster))),
-    )
 
 
 class IsObstruction(Case):
@@ -194,7 +157,7 @@ class Certificates(Case):
 
     def test_large_tables_with_a_seating(self):
         for table, rankings in large_tables():
-            expected = smallest_by_chain(table, rankings)
+            expected = first_by_chain(table, rankings)
             self.same(self.call(first_seating, table), expected)
             self.same(self.call(certificate, table), ("seating", expected))
             self.same(self.call(is_certificate, table, ("seating", expected)), True)
@@ -296,11 +259,11 @@ class MinimalConflicts(Case):
         for table in large_unseatable_tables()[:4]:
             found = self.call(minimal_conflicts, table)
             self.assertEqual(list(found), sorted(set(found)))
-            expected = [row for row in combinations(range(len(table[1])), 3) if splits_badly(table, row)]
+            expected = [row for row in combinations(range(len(table[1])), 3) if not is_seatable(table, row)]
             self.assertEqual([row for row in found if len(row) == 3], expected)
             known = set(expected)
             fours = [
                 row for row in combinations(range(len(table[1])), 4)
-                if not known & set(combinations(row, 3)) and splits_badly(table, row)
+                if not known & set(combinations(row, 3)) and not is_seatable(table, row)
             ]
             self.assertEqual([row for row in found if len(row) != 3], fours)

@@ -1,41 +1,13 @@
 """Points 48 to 51: swaps of neighbours."""
 
 import random
-from itertools import combinations, permutations, product
+from itertools import combinations, product
 
-from helper import LONG, Case, odd_values, random_rankings, resized, spoiled
+from helper import (
+    LONG, Case, gap, neighbours, odd_values, random_rankings, rankings, resized, shortest_paths, spoiled, swap_steps,
+)
 from tasterow.errors import TooMany
 from tasterow.swaps import count_shortest_paths, is_shortest_path, swap_path
-
-
-def rankings(dishes):
-    return list(permutations(range(dishes)))
-
-
-def gap(one, other):
-    """The number of pairs that differ."""
-    return sum(
-        (one.index(low) < one.index(high)) != (other.index(low) < other.index(high))
-        for low, high in combinations(range(len(one)), 2)
-    )
-
-
-def swapped(row, at):
-    row = list(row)
-    row[at], row[at + 1] = row[at + 1], row[at]
-    return tuple(row)
-
-
-def neighbours(row):
-    return [swapped(row, at) for at in range(len(row) - 1)]
-
-
-def shortest_paths(one, other):
-    """All shortest paths, by a search through all paths that are not too long."""
-    paths = [(one,)]
-    for left in range(gap(one, other) - 1, -1, -1):
-        paths = [(*path, row) for path in paths for row in neighbours(path[-1]) if gap(row, other) <= left]
-    return paths
 
 
 def some_pairs():
@@ -54,12 +26,7 @@ class SwapPath(Case):
     def test_the_rule_of_each_step(self):
         for one, other in some_pairs():
             path = self.call(swap_path, one, other)
-            expected = [one]
-            while expected[-1] != other:
-                row = expected[-1]
-                at = min(k for k in range(len(row) - 1) if other.index(row[k + 1]) < other.index(row[k]))
-                expected.append(swapped(row, at))
-            self.same(path, tuple(expected))
+            self.same(path, swap_steps(one, other))
             self.assertEqual(len(path), gap(one, other) + 1)
 
     def test_equal_rankings(self):
