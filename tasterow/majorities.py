@@ -1,17 +1,13 @@
 """Majorities: what more than half of the total weight prefers, and the medians."""
 
 from tasterow.counting import group_order
-from tasterow.errors import NoDish
 from tasterow.rankings import all_pairs, prefers
-from tasterow.tables import is_dish_number, total_weight
+from tasterow.tables import check_two_dishes, total_weight
 
 
 def support(table, one, other):
     """Return the total weight of the tasters who prefer dish one to dish other."""
-    if not is_dish_number(table, one):
-        raise NoDish(one)
-    if not is_dish_number(table, other) or one == other:
-        raise NoDish(other)
+    check_two_dishes(table[0], one, other)
     return sum([weight for ranking, weight in table[1] if prefers(ranking, one, other)])
 
 

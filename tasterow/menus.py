@@ -24,19 +24,23 @@ def choices(table, menu):
     return tuple([ranking[chosen_position(ranking, menu)] for ranking, weight in table[1]])
 
 
+def joined_blocks(parts):
+    """Return the tuple of the blocks (dish, first, last) that consist of such parts of a row."""
+    found = []
+    for dish, first, last in parts:
+        # All who choose a dish sit together, so it can only continue the last block.
+        if found and found[-1][0] == dish:
+            found[-1] = (dish, found[-1][1], last)
+        else:
+            found.append((dish, first, last))
+    return tuple(found)
+
+
 def blocks(table, menu):
     """Return the tuple of all (dish, first, last) along the first seating."""
     seating = first_seating(table)
     chosen = choices(table, menu)
-    found = []
-    for at, taster in enumerate(seating):
-        dish = chosen[taster]
-        # All who choose a dish sit together, so it can only continue the last block.
-        if found and found[-1][0] == dish:
-            found[-1] = (dish, found[-1][1], at)
-        else:
-            found.append((dish, at, at))
-    return tuple(found)
+    return joined_blocks([(chosen[taster], at, at) for at, taster in enumerate(seating)])
 
 
 def cost(table, menu):

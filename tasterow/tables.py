@@ -55,9 +55,17 @@ def is_taster_number(table, value):
     return is_within(value, 0, len(table[1]) - 1)
 
 
-def is_dish_number(table, value):
-    """Return whether value is the number of a dish."""
-    return is_within(value, 0, table[0] - 1)
+def is_dish_number(dishes, value):
+    """Return whether value is the number of one of that many dishes."""
+    return is_within(value, 0, dishes - 1)
+
+
+def check_two_dishes(dishes, one, other):
+    """Raise NoDish unless the two values are different dishes of that many."""
+    if not is_dish_number(dishes, one):
+        raise NoDish(one)
+    if not is_dish_number(dishes, other) or one == other:
+        raise NoDish(other)
 
 
 def is_menu_of(dishes, value):
@@ -90,7 +98,7 @@ def remove_taster(table, taster):
 def remove_dish(table, dish):
     """Return the table without that dish, the greater dishes renumbered."""
     dishes = table[0]
-    if not is_dish_number(table, dish):
+    if not is_dish_number(dishes, dish):
         raise NoDish(dish)
     if dishes == 1:
         raise LastOne()

@@ -1,5 +1,8 @@
 """Checks of values that may be anything, and the ascending tuples of integers."""
 
+LETTERS = "abcdefghijklmnopqrstuvwxyz"
+MAX_NAME = 8
+
 
 def is_whole(value):
     """Return whether value is an integer; truth values are none."""
@@ -25,6 +28,13 @@ def is_ascending(value, low, high):
     if not isinstance(value, tuple) or not all([is_within(part, low, high) for part in value]):
         return False
     return all([value[at - 1] < value[at] for at in range(1, len(value))])
+
+
+def is_name(value):
+    """Return whether value is a name of a taster: 1 to 8 lowercase letters."""
+    if not isinstance(value, str) or not 1 <= len(value) <= MAX_NAME:
+        return False
+    return all([letter in LETTERS for letter in value])
 
 
 def ascending_tuples(size, length):

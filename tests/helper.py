@@ -8,10 +8,14 @@ from itertools import combinations, permutations, product
 from tasterow.errors import NotSeatable
 
 LONG = int("9" * 60)
+TOP = 10 ** 12
 T = (3, (((0, 1, 2), 1), ((2, 1, 0), 1), ((1, 0, 2), 2)))
 U = (3, (((0, 1, 2), 1), ((2, 1, 0), 1), ((1, 0, 2), 2), ((0, 2, 1), 1)))
 # Its four tasters form a quadruple, but no three of them form a triple.
 FOUR = (4, (((0, 1, 2, 3), 1), ((1, 0, 3, 2), 2), ((1, 0, 2, 3), 3), ((0, 1, 3, 2), 4)))
+
+# A line with both limits of the numbers.
+STEEP = ((TOP, -TOP), (-TOP, TOP), (0, 0), (TOP, TOP), (-TOP, -TOP), (1, -1), (-1, 1), (TOP, -1))
 
 
 def odd_values():
@@ -241,6 +245,55 @@ def right_form(table, value):
         and all(pair in combinations(range(table[0]), 2) for pair in pairs)
         and (word == "triple" or pairs[0] < pairs[1])
     )
+
+
+def line_ranked(line, t):
+    """The ranking of taster t: again and again the dish of the greatest worth, the lowest of several."""
+    left = {dish: height + slope * t for dish, (height, slope) in enumerate(line)}
+    order = []
+    while left:
+        best = max(left.values())
+        order.append(min(dish for dish in left if left[dish] == best))
+        del left[order[-1]]
+    return tuple(order)
+
+
+def short_lines():
+    """Lines of one to eight dishes whose pairs change among the first tasters."""
+    source = random.Random(13)
+    found = [((0, 1), (5, 0), (10, -1)), ((0, 0),), ((3, 1), (3, 1)), ((0, 0), (0, 0), (0, 0))]
+    found += [((5, -1), (0, 0)), ((0, 0), (5, -1))]
+    for dishes in range(1, 9):
+        for reach in (3, 12, 60):
+            for attempt in range(3):
+                found.append(tuple(
+                    (source.randint(-reach, reach), source.randint(-4, 4)) for dish in range(dishes)
+                ))
+    # All pairs change at one place, and all pairs but one are tied there.
+    found.append(tuple((20 - 4 * slope, slope) for slope in range(8)))
+    found.append(tuple((20 - 4 * slope, slope) for slope in (3, -2, 7, 0, 5, -6)))
+    return found
+
+
+def long_lines():
+    """Lines whose pairs change anywhere between 0 and the last taster."""
+    source = random.Random(14)
+    found = [STEEP, STEEP[::-1], ((0, 1), (TOP, 0)), ((TOP, 0), (0, 1)), ((TOP, -1), (0, 0)), ((0, 0), (TOP, -1))]
+    for dishes in range(2, 9):
+        for steep in (3, 1000, TOP):
+            found.append(tuple(
+                (source.randint(-TOP, TOP), source.randint(-steep, steep)) for dish in range(dishes)
+            ))
+    return found
+
+
+def wrong_spans():
+    """Pairs that are no spans."""
+    odd = [value for value in odd_values() if type(value) is not int]
+    found = [(1, 0), (5, 4), (TOP, TOP - 1), (TOP, 0), (-1, 0), (-1, -1), (0, -1), (0, TOP + 1)]
+    found += [(TOP + 1, TOP + 1), (TOP, TOP + 1), (-LONG, LONG), (0, LONG), (LONG, LONG), (-5, 10)]
+    found += [(True, 5), (False, 5), (0, True), (False, False), (True, True), (0, False), ("0", "5"), ((0,), (5,))]
+    return found + [(value, 5) for value in odd] + [(0, value) for value in odd] + [(value, value) for value in odd]
 
 
 class Case(unittest.TestCase):

@@ -386,6 +386,236 @@ raises NoSpan
 >>> line_changes(L, 0, 10)
 ((5, (0, 1)), (5, (0, 2)), (5, (1, 2)))
 """,
+    73: """
+>>> from tasterow.spans import line_support
+>>> L = ((0, 1), (5, 0), (10, -1))
+>>> line_support(L, 0, 10, 0, 1)
+6
+""",
+    74: """
+>>> from tasterow.spans import line_medians
+>>> L = ((0, 1), (5, 0), (10, -1))
+>>> line_medians(L, 0, 10)
+((0, 1, 2),)
+>>> line_medians(L, 4, 5)
+((0, 1, 2), (2, 1, 0))
+""",
+    75: """
+>>> from tasterow.spans import line_choices
+>>> L = ((0, 1), (5, 0), (10, -1))
+>>> line_choices(L, 0, 10, (1, 2))
+((2, 0, 4), (1, 5, 10))
+""",
+    76: """
+>>> from tasterow.spans import line_cost
+>>> L = ((0, 1), (5, 0), (10, -1))
+>>> line_cost(L, 0, 10, (1, 2))
+6
+""",
+    77: """
+>>> from tasterow.spans import line_insert_ranges
+>>> L = ((0, 1), (5, 0), (10, -1))
+>>> line_insert_ranges(L, 0, 10, (1, 2, 0))
+((5, 5),)
+>>> line_insert_ranges(L, 6, 8, (1, 2, 0))
+((6, 6), (9, 9))
+>>> line_insert_ranges(L, 6, 6, (1, 2, 0))
+((6, 7),)
+""",
+    78: """
+>>> from tasterow.spans import line_table
+>>> L = ((0, 1), (5, 0), (10, -1))
+>>> line_table(L, (0, 5))
+(3, (((2, 1, 0), 1), ((0, 1, 2), 1)))
+""",
+    80: """
+>>> from tasterow.boards import Board
+>>> b = Board(3)
+>>> str(b)
+'board of 3 dishes, 0 tasters, weight 0'
+>>> Board(9)
+raises BadDishes(9)
+""",
+    81: """
+>>> from tasterow.boards import GuardedBoard
+>>> b = GuardedBoard(3)
+>>> b.add('a', (0, 1, 2), 1)
+>>> b.add('b', (2, 1, 0), 1)
+>>> b.add('c', (1, 0, 2), 2)
+>>> b.add('d', (0, 2, 1), 1)
+raises Blocked
+""",
+    82: """
+>>> from tasterow.boards import Board
+>>> b = Board(3)
+>>> b.add('a', (0, 1, 2), 5)
+>>> b.weight_of('a')
+5
+>>> b = Board(3)
+>>> b.add('A', (0, 1, 2), 5)
+raises NoName('A')
+""",
+    83: """
+>>> from tasterow.boards import Board
+>>> b = Board(3)
+>>> b.add('a', (0, 1, 2), 5)
+>>> b.discard('a')
+>>> b.names()
+()
+""",
+    84: """
+>>> from tasterow.boards import Board
+>>> b = Board(3)
+>>> b.add('a', (0, 1, 2), 5)
+>>> b.set_ranking('a', (0, 1))
+raises NoRanking((0, 1))
+""",
+    85: """
+>>> from tasterow.boards import Board
+>>> b = Board(3)
+>>> b.add('a', (0, 1, 2), 5)
+>>> b.set_weight('a', 0)
+raises NoWeight(0)
+""",
+    86: """
+>>> from tasterow.boards import Board
+>>> b = Board(3)
+>>> b.add('a', (0, 1, 2), 5)
+>>> b.drop_dish(1)
+>>> b.ranking_of('a')
+(0, 1)
+""",
+    87: """
+>>> from tasterow.boards import Board
+>>> b = Board(3)
+>>> b.undo()
+raises NothingToUndo
+""",
+    88: """
+>>> from tasterow.boards import Board
+>>> b = Board(3)
+>>> b.apply_all([('add', 'a', (0, 1, 2), 1), ('discard', 'x')])
+raises Failed(1)
+>>> b = Board(3)
+>>> b.apply_all([('add', 'a', (0, 1, 2), 1), ('drop_dish', 2)])
+>>> len(b)
+2
+""",
+    89: """
+>>> from tasterow.boards import Board
+>>> b = Board(3)
+>>> b.add('a', (0, 1, 2), 1)
+>>> b.undo()
+>>> b.log()
+(('add', 'done'), ('undo', 'done'))
+""",
+    90: """
+>>> from tasterow.boards import Board
+>>> b = Board(3)
+>>> b.drop_dish(0)
+>>> (b.dish_count(), b.dish_count(at=0), b.names())
+(2, 3, ())
+""",
+    91: """
+>>> from tasterow.boards import Board
+>>> b = Board(3)
+>>> b.ranking_of('x')
+raises UnknownName('x')
+""",
+    92: """
+>>> from tasterow.boards import Board
+>>> Board(3).table()
+raises Empty
+""",
+    93: """
+>>> from tasterow.boards import Board
+>>> b = Board(3)
+>>> b.add('a', (0, 1, 2), 1)
+>>> b.add('b', (2, 1, 0), 1)
+>>> b.add('c', (1, 0, 2), 2)
+>>> b.seating()
+('a', 'c', 'b')
+""",
+    94: """
+>>> from tasterow.boards import Board
+>>> Board(3).is_seatable()
+True
+""",
+    95: """
+>>> from tasterow.boards import Board
+>>> b = Board(3)
+>>> b.clone() == b
+True
+""",
+    98: """
+>>> from tasterow.texts import format_ranking
+>>> format_ranking((2, 0, 1))
+'2>0>1'
+""",
+    99: """
+>>> from tasterow.texts import format_table
+>>> format_table((2, (((1, 0), 7),)))
+'2\\n7 1>0\\n'
+""",
+    100: """
+>>> from tasterow.texts import format_seating
+>>> format_seating((0, 2, 1))
+'0 2 1'
+""",
+    101: """
+>>> from tasterow.texts import format_obstruction
+>>> format_obstruction(('triple', (1, 2, 3), ((0, 2), (1, 2), (0, 1))))
+'triple 1,2,3 0-2,1-2,0-1'
+""",
+    102: """
+>>> from tasterow.texts import parse_ranking
+>>> parse_ranking('2>0>1')
+(2, 0, 1)
+>>> parse_ranking('0>2')
+raises BadText(0)
+""",
+    103: """
+>>> from tasterow.texts import parse_table
+>>> parse_table('2\\n')
+raises BadText(1)
+>>> parse_table('2\\n7 1>0')
+raises BadText(1)
+>>> parse_table('')
+raises BadText(0)
+""",
+    104: """
+>>> from tasterow.texts import parse_obstruction
+>>> parse_obstruction('quadruple 0,1,2,3 0-1,1-2')
+('quadruple', (0, 1, 2, 3), ((0, 1), (1, 2)))
+""",
+    105: """
+>>> from tasterow.boards import Board
+>>> from tasterow.consoles import Console
+>>> b = Board(3)
+>>> c = Console(b)
+>>> answer = c.execute('drop_dish 0')
+>>> (answer, b.dish_count())
+('done', 2)
+""",
+    106: """
+>>> from tasterow.boards import Board
+>>> from tasterow.consoles import Console
+>>> c = Console(Board(3))
+>>> c.execute('discard x')
+'error UnknownName'
+>>> c = Console(Board(3))
+>>> c.execute('discard')
+'syntax error'
+""",
+    107: """
+>>> from tasterow.boards import Board
+>>> from tasterow.consoles import Console
+>>> c = Console(Board(3))
+>>> one = c.execute('undo')
+>>> other = c.execute(None)
+>>> c.history()
+(('undo', 'error NothingToUndo'), (None, 'syntax error'))
+""",
 }
 
 

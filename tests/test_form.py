@@ -2,6 +2,7 @@
 
 import ast
 import builtins
+import functools
 import pathlib
 import re
 import unittest
@@ -22,6 +23,12 @@ BARRED = re.compile(
     r"|dataclass|overload|contextmanager"
 )
 
+# Methods of builtin values.
+METHODS = set("""
+append clear copy count endswith extend find get index insert isalnum isalpha isdigit islower isspace isupper items
+join keys ljust lower lstrip partition pop remove replace reverse rfind rjust rpartition rsplit rstrip setdefault split
+splitlines startswith strip update upper values zfill bit_length
+""".split())
 
 LAZY = ("zip", "enumerate", "reversed", "range", "items", "keys", "values")
 TAKES_LAZY = ("list", "tuple", "dict", "sorted", "sum", "any", "all", "enumerate", "zip", "min", "max", "reversed")
@@ -36,11 +43,21 @@ def sources():
     return [(path.name, path.read_text()) for path in sorted(PACKAGE.glob("*.py"))]
 
 
+@functools.cache
+def trees():
+    return [(name, ast.parse(text)) for name, text in sources()]
+
+
 def nodes(kind):
-    return [
-        (name, node) for name, text in sources()
-        for node in ast.walk(ast.parse(text)) if isinstance(node, kind)
-    ]
+    return [(name, node) for name, tree in trees() for node in ast.walk(tree) if isinstance(node, kind)]
+
+
+def own_methods():
+    return {item.name for name, node in nodes(ast.ClassDef) for item in node.body if isinstance(item, ast.FunctionDef)}
+
+
+def stored_attributes():
+    return {node.attr for name, node in nodes(ast.Attribute) if isinstance(node.ctx, ast.Store)}
 
 
 class Form(unittest.TestCase):
@@ -126,3 +143,87 @@ class Form(unittest.TestCase):
             with self.subTest(name=name, line=node.lineno):
                 self.assertNotIsInstance(node.value, (float, complex))
                 self.assertNotIn("%", str(node.value))
+
+
+class Classes(unittest.TestCase):
+
+    def test_listed_double_underscore_methods(self):
+        for name, node in nodes(ast.FunctionDef):
+            if node.name.startswith("_"):
+                with self.subTest(name=name, function=node.name):
+                    self.assertIn(node.name, ("__init__", "__eq__", "__str__", "__len__"))
+
+    def test_no_name_is_a_method_and_an_attribute(self):
+        self.assertEqual(own_methods() & stored_attributes(), set())
+
+    def test_attributes_that_are_read_are_assigned(self):
+        called = {id(node.func) for name, node in nodes(ast.Call)}
+        for name, node in nodes(ast.Attribute):
+            with self.subTest(name=name, line=node.lineno):
+                if id(node) in called:
+                    self.assertIn(node.attr, METHODS | own_methods())
+                else:
+                    self.assertIn(node.attr, stored_attributes())
+
+    def test_no_stored_sets(self):
+        # A class has the methods add and discard, so no stored set may use them.
+        for name, node in nodes(ast.Assign):
+            with self.subTest(name=name, line=node.lineno):
+                self.assertNotIsInstance(node.value, (ast.Set, ast.SetComp))
+                self.assertFalse(isinstance(node.value, ast.Call) and getattr(node.value.func, "id", "") == "set")
+
+    def test_errors_are_created_where_they_are_raised(self):
+        for name, node in nodes(ast.Raise):
+            with self.subTest(name=name, line=node.lineno):
+                if node.exc is not None:
+                    self.assertIsInstance(node.exc, ast.Call)
+                    self.assertIsInstance(node.exc.func, ast.Name)
+
+    def test_only_own_errors_are_caught(self):
+        defined = {node.name for name, node in nodes(ast.ClassDef)}
+        for name, node in nodes(ast.ExceptHandler):
+            with self.subTest(name=name, line=node.lineno):
+                self.assertIn(getattr(node.type, "id", None), defined)
+                self.assertIsNone(node.name)
+
+    def test_double_underscore_methods_assign_nothing(self):
+        for name, node in nodes(ast.FunctionDef):
+            if node.name in ("__eq__", "__str__", "__len__"):
+                with self.subTest(name=name, function=node.name):
+                    found = [part for part in ast.walk(node) if isinstance(part, (ast.Assign, ast.AugAssign))]
+                    self.assertEqual(found, [])
+                    self.assertIsInstance(node.body[-1], ast.Return)
+
+
+class Imports(unittest.TestCase):
+
+    def test_names_come_from_the_files_that_define_them(self):
+        defined = {}
+        for name, text in sources():
+            for node in ast.parse(text).body:
+                words = [target.id for target in node.targets] if isinstance(node, ast.Assign) else []
+                words += [node.name] if isinstance(node, (ast.FunctionDef, ast.ClassDef)) else []
+                defined.setdefault(name, []).extend(words)
+        for name, node in nodes(ast.ImportFrom):
+            for alias in node.names:
+                with self.subTest(name=name, word=alias.name):
+                    self.assertIn(alias.name, defined[node.module.split(".")[1] + ".py"])
+                    self.assertIsNone(alias.asname)
+
+    def test_each_import_is_used(self):
+        for name, text in sources():
+            tree = ast.parse(text)
+            used = {node.id for node in ast.walk(tree) if isinstance(node, ast.Name)}
+            for node in tree.body:
+                if isinstance(node, ast.ImportFrom):
+                    with self.subTest(name=name, module=node.module):
+                        self.assertLessEqual({alias.name for alias in node.names}, used)
+
+    def test_no_two_files_import_from_each_other(self):
+        wanted = {name[:-3]: set() for name, text in sources()}
+        for name, node in nodes(ast.ImportFrom):
+            wanted[name[:-3]].add(node.module.split(".")[1])
+        # Files whose imports are all settled are taken away until none is left.
+        while settled := [name for name in wanted if not wanted[name]]:
+            wanted = {name: wanted[name] - set(settled) for name in wanted if name not in settled}
+        self.assertEqual(wanted, {})

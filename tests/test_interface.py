@@ -89,7 +89,59 @@ FUNCTIONS = {
         "line_distance": "(line, low, high)",
         "line_changes": "(line, low, high)",
     },
+    "spans": {
+        "line_support": "(line, low, high, one, other)",
+        "line_medians": "(line, low, high)",
+        "line_choices": "(line, low, high, menu)",
+        "line_cost": "(line, low, high, menu)",
+        "line_insert_ranges": "(line, low, high, ranking)",
+        "line_table": "(line, places)",
+    },
+    "texts": {
+        "format_ranking": "(ranking)",
+        "format_table": "(table)",
+        "format_seating": "(seating)",
+        "format_obstruction": "(obstruction)",
+        "parse_ranking": "(value)",
+        "parse_table": "(value)",
+        "parse_obstruction": "(value)",
+    },
 }
+
+# The methods of each class, with the class and its module.
+METHODS = {
+    ("boards", "Board"): {
+        "__init__": "(self, dishes, *, limit=60)",
+        "add": "(self, name, ranking, weight)",
+        "discard": "(self, name)",
+        "set_ranking": "(self, name, ranking)",
+        "set_weight": "(self, name, weight)",
+        "drop_dish": "(self, dish)",
+        "undo": "(self)",
+        "apply_all": "(self, operations)",
+        "log": "(self)",
+        "dish_count": "(self, *, at=None)",
+        "names": "(self, *, at=None)",
+        "ranking_of": "(self, name, *, at=None)",
+        "weight_of": "(self, name, *, at=None)",
+        "table": "(self, *, at=None)",
+        "seating": "(self, *, at=None)",
+        "is_seatable": "(self, *, at=None)",
+        "clone": "(self)",
+        "__len__": "(self)",
+        "__str__": "(self)",
+        "__eq__": "(self, other)",
+    },
+    ("boards", "GuardedBoard"): {
+        "__init__": "(self, dishes, *, limit=60)",
+    },
+    ("consoles", "Console"): {
+        "__init__": "(self, board)",
+        "execute": "(self, line)",
+        "history": "(self)",
+    },
+}
+LIMITS = ("MAX_DISHES", "MAX_TASTERS", "MAX_WEIGHT", "MAX_OPERATIONS", "MAX_BATCH", "LOG_SIZE")
 
 
 class Interface(unittest.TestCase):
@@ -108,3 +160,28 @@ class Interface(unittest.TestCase):
             for name in functions:
                 with self.subTest(module=module, name=name):
                     self.assertEqual(defined.count(name), 1)
+
+    def test_methods_have_the_documented_parameters(self):
+        for (module, owner), methods in METHODS.items():
+            loaded = getattr(importlib.import_module(f"tasterow.{module}"), owner)
+            for name, parameters in methods.items():
+                with self.subTest(owner=owner, name=name):
+                    # The class itself has the method, not only a base class.
+                    self.assertIn(name, vars(loaded))
+                    self.assertEqual(str(inspect.signature(vars(loaded)[name])), parameters)
+
+    def test_classes_are_defined_in_their_own_files(self):
+        for module, owner in METHODS:
+            tree = ast.parse((PACKAGE / f"{module}.py").read_text())
+            defined = [node.name for node in tree.body if isinstance(node, ast.ClassDef)]
+            self.assertEqual(defined.count(owner), 1)
+
+    def test_limits_are_in_their_module(self):
+        limits = importlib.import_module("tasterow.limits")
+        for name in LIMITS:
+            self.assertIs(type(getattr(limits, name)), int)
+
+    def test_every_section_of_the_document_has_its_module(self):
+        names = {path.stem for path in PACKAGE.glob("*.py")}
+        wanted = {*FUNCTIONS, *[module for module, owner in METHODS], "errors", "limits", "__init__"}
+        self.assertLessEqual(wanted, names)

@@ -4,26 +4,15 @@ import random
 import time
 from itertools import combinations, product
 
-from helper import LONG, Case, odd_values, resized, spoiled
+from helper import (
+    LONG, STEEP, TOP, Case, line_ranked, long_lines, odd_values, resized, short_lines, spoiled, wrong_spans,
+)
 from tasterow.errors import NoSpan, NoTaster
 from tasterow.lines import (
     is_line, line_changes, line_distance, line_ranking, line_segments,
 )
 
 L = ((0, 1), (5, 0), (10, -1))
-TOP = 10 ** 12
-STEEP = ((TOP, -TOP), (-TOP, TOP), (0, 0), (TOP, TOP), (-TOP, -TOP), (1, -1), (-1, 1), (TOP, -1))
-
-
-def ranked(line, t):
-    """The ranking of taster t: again and again the dish of the greatest worth, the lowest of several."""
-    left = {dish: height + slope * t for dish, (height, slope) in enumerate(line)}
-    order = []
-    while left:
-        best = max(left.values())
-        order.append(min(dish for dish in left if left[dish] == best))
-        del left[order[-1]]
-    return tuple(order)
 
 
 def differ(one, other):
@@ -33,44 +22,7 @@ def differ(one, other):
     ]
 
 
-def short_lines():
-    """Lines of one to eight dishes whose pairs change among the first tasters."""
-    source = random.Random(13)
-    found = [L, ((0, 0),), ((3, 1), (3, 1)), ((0, 0), (0, 0), (0, 0)), ((5, -1), (0, 0)), ((0, 0), (5, -1))]
-    for dishes in range(1, 9):
-        for reach in (3, 12, 60):
-            for attempt in range(3):
-                found.append(tuple(
-                    (source.randint(-reach, reach), source.randint(-4, 4)) for dish in range(dishes)
-                ))
-    # All pairs change at one place, and all pairs but one are tied there.
-    found.append(tuple((20 - 4 * slope, slope) for slope in range(8)))
-    found.append(tuple((20 - 4 * slope, slope) for slope in (3, -2, 7, 0, 5, -6)))
-    return found
-
-
-def long_lines():
-    """Lines whose pairs change anywhere between 0 and the last taster."""
-    source = random.Random(14)
-    found = [STEEP, STEEP[::-1], ((0, 1), (TOP, 0)), ((TOP, 0), (0, 1)), ((TOP, -1), (0, 0)), ((0, 0), (TOP, -1))]
-    for dishes in range(2, 9):
-        for steep in (3, 1000, TOP):
-            found.append(tuple(
-                (source.randint(-TOP, TOP), source.randint(-steep, steep)) for dish in range(dishes)
-            ))
-    return found
-
-
 SPANS = [(0, 0), (0, 1), (0, 30), (2, 2), (3, 19), (4, 5), (7, 60)]
-
-
-def wrong_spans():
-    """Pairs that are no spans."""
-    odd = [value for value in odd_values() if type(value) is not int]
-    found = [(1, 0), (5, 4), (TOP, TOP - 1), (TOP, 0), (-1, 0), (-1, -1), (0, -1), (0, TOP + 1)]
-    found += [(TOP + 1, TOP + 1), (TOP, TOP + 1), (-LONG, LONG), (0, LONG), (LONG, LONG), (-5, 10)]
-    found += [(True, 5), (False, 5), (0, True), (False, False), (True, True), (0, False), ("0", "5"), ((0,), (5,))]
-    return found + [(value, 5) for value in odd] + [(0, value) for value in odd] + [(value, value) for value in odd]
 
 
 class IsLine(Case):
@@ -122,13 +74,13 @@ class LineRanking(Case):
     def test_short_lines(self):
         for line in short_lines():
             for t in range(70):
-                self.same(self.call(line_ranking, line, t), ranked(line, t))
+                self.same(self.call(line_ranking, line, t), line_ranked(line, t))
 
     def test_ends_and_far_tasters(self):
         source = random.Random(15)
         for line in long_lines() + short_lines():
             for t in (0, 1, 2, TOP - 1, TOP, *[source.randint(0, TOP) for attempt in range(9)]):
-                self.same(self.call(line_ranking, line, t), ranked(line, t))
+                self.same(self.call(line_ranking, line, t), line_ranked(line, t))
 
     def test_ties_go_to_the_lower_dish(self):
         self.same(self.call(line_ranking, ((0, 0), (0, 0), (0, 0)), 5), (0, 1, 2))
@@ -152,7 +104,7 @@ class Spans(Case):
 
     def check(self, line, low, high):
         """Against line_ranking at every taster."""
-        row = [ranked(line, t) for t in range(low, high + 1)]
+        row = [line_ranked(line, t) for t in range(low, high + 1)]
         runs = []
         for t, ranking in enumerate(row, low):
             if runs and runs[-1][2] == ranking:
@@ -186,16 +138,16 @@ class Spans(Case):
         self.assertEqual(len(set(pairs)), len(pairs))
         for t, pair in changes:
             self.assertTrue(low < t <= high)
-            self.assertIn(pair, differ(ranked(line, t - 1), ranked(line, t)))
+            self.assertIn(pair, differ(line_ranked(line, t - 1), line_ranked(line, t)))
         # No pair changes twice, so those that differ at the ends are all that change.
-        self.assertEqual(sorted(pairs), differ(ranked(line, low), ranked(line, high)))
+        self.assertEqual(sorted(pairs), differ(line_ranked(line, low), line_ranked(line, high)))
         self.same(self.call(line_distance, line, low, high), len(pairs))
         starts = sorted({low, *[t for t, pair in changes]})
         ends = [t - 1 for t in starts[1:]] + [high]
-        expected = [(first, last, ranked(line, first)) for first, last in zip(starts, ends)]
+        expected = [(first, last, line_ranked(line, first)) for first, last in zip(starts, ends)]
         self.same(self.call(line_segments, line, low, high), tuple(expected))
         for first, last, ranking in expected:
-            self.assertEqual(ranked(line, last), ranking)
+            self.assertEqual(line_ranked(line, last), ranking)
 
     def test_long_spans(self):
         source = random.Random(16)
@@ -219,7 +171,7 @@ class Spans(Case):
     def test_one_taster(self):
         for line in long_lines() + short_lines():
             for t in (0, 5, TOP):
-                self.same(self.call(line_segments, line, t, t), ((t, t, ranked(line, t)),))
+                self.same(self.call(line_segments, line, t, t), ((t, t, line_ranked(line, t)),))
                 self.same(self.call(line_distance, line, t, t), 0)
                 self.same(self.call(line_changes, line, t, t), ())
 
@@ -238,7 +190,7 @@ class Spans(Case):
 
     def test_each_pair_changes_at_most_once(self):
         for line in short_lines():
-            row = [ranked(line, t) for t in range(61)]
+            row = [line_ranked(line, t) for t in range(61)]
             for low, high in combinations(range(len(line)), 2):
                 views = [ranking.index(low) < ranking.index(high) for ranking in row]
                 self.assertLessEqual(sum(one != other for one, other in zip(views, views[1:])), 1)

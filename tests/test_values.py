@@ -3,7 +3,7 @@
 from itertools import combinations, product
 
 from helper import Case, LONG, odd_values, spoiled
-from tasterow.values import ascending_tuples, is_ascending, is_order, is_whole, is_within
+from tasterow.values import ascending_tuples, is_ascending, is_name, is_order, is_whole, is_within
 
 
 class Integers(Case):
@@ -55,3 +55,20 @@ class Tuples(Case):
     def test_all_ascending_tuples(self):
         for size, length in product(range(9), range(9)):
             self.same(ascending_tuples(size, length), list(combinations(range(size), length)))
+
+
+class Names(Case):
+
+    def test_lengths(self):
+        for length in range(12):
+            self.same(self.call(is_name, "z" * length), 1 <= length <= 8)
+
+    def test_letters(self):
+        for code in [10, *range(32, 127)]:
+            for text in (chr(code), "a" + chr(code), chr(code) + "a"):
+                self.same(self.call(is_name, text), "a" <= chr(code) <= "z")
+
+    def test_other_values(self):
+        for value in [*odd_values(), b"a", ["a"], ("a",), {"a": 1}]:
+            with self.subTest(value=value):
+                self.same(self.call(is_name, value), False)
