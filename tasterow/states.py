@@ -33,8 +33,10 @@ def with_taster(state, name, ranking, weight):
     if name in names:
         raise NameTaken(name)
     dishes, tasters = add_taster(table, ranking, weight)
-    rows = sorted(zip(names + (name,), tasters))
-    return (tuple([word for word, taster in rows]), (dishes, tuple([taster for word, taster in rows])))
+    # The new taster stands at the end; it moves to the place of its name.
+    place = len([other for other in names if other < name])
+    moved = tasters[:place] + tasters[-1:] + tasters[place:-1]
+    return (names[:place] + (name,) + names[place:], (dishes, moved))
 
 
 def without_taster(state, name):

@@ -248,6 +248,13 @@ class IsLevelCertificate(Case):
         for tasters in ((1, 0), (0, 0), (0,), (0, 1, 2), (), (2, 1), (-1, 0), (1, 3)):
             self.check(table, (2, tasters, levels), False)
 
+    def test_nobody_is_kept(self):
+        for table in self.tables():
+            weight, tasters, levels = level_certificate(table)
+            zeros = tuple(tuple(0 for level in row) for row in levels)
+            for value in ((0, (), levels), (weight, (), levels), (0, (), zeros), (0, (), ()), (0, tasters, zeros)):
+                self.check(table, value, False)
+
     def test_tasters_that_are_not_seatable(self):
         # The weight is right and all levels are below it, but the four cannot sit in a row.
         levels = level_certificate(U)[2]

@@ -12,6 +12,7 @@ from tasterow.texts import (
 DIGITS = "0123456789"
 # What stands where only digits may stand: signs, blanks, leading zeros, fourteen digits.
 WRONG_NUMBERS = ["", "00", "01", "-1", "+1", " 1", "1 ", "1\n", "a", "1a", "1.0", "1e3", "0x1", "1_0", "10000000000000"]
+WRONG_NUMBERS += [form.format(chr(code)) for code in range(33, 127) if not 48 <= code <= 57 for form in ("{}", "1{}1")]
 NOT_STRINGS = [value for value in odd_values() if not isinstance(value, str)] + [b"0", [DIGITS]]
 
 
